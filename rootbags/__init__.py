@@ -1,0 +1,1 @@
+"""Rootbags: bags of numbers that are known only together."""

@@ -1,0 +1,155 @@
+"""Polynomials: tuples of rationals, the constant term first.
+
+Inside, a polynomial is a list of integers without zeros at its end, over one common denominator (its scale).
+Long numbers then need few reductions to lowest terms, which are the slow part of rational arithmetic.
+"""
+
+from rootbags.errors import InvalidPolynomial
+from rootbags.rationals import as_pair, least_multiple, lowest, shared_factor
+
+
+def trimmed(numbers):
+    """Return the numbers without the zeros at their end."""
+    many = len(numbers)
+    while many > 0 and numbers[many - 1] == 0:
+        many = many - 1
+    return numbers[:many]
+
+
+def whole_parts(poly):
+    """Return the integers and the scale of a polynomial; the scale is positive."""
+    pairs = [as_pair(value) for value in poly]
+    scale = 1
+    for pair in pairs:
+        scale = least_multiple(scale, pair[1])
+    numbers = [numerator * (scale // denominator) for numerator, denominator in pairs]
+    return trimmed(numbers), scale
+
+
+def as_polynomial(numbers, scale):
+    """Return the polynomial with these integers, each divided by the scale."""
+    return tuple([lowest(number, scale) for number in numbers])
+
+
+def monic(numbers):
+    """Return the polynomial with these integers, divided by the last one; () for none."""
+    if numbers == []:
+        return ()
+    return as_polynomial(numbers, numbers[-1])
+
+
+def scaled(numbers, factor):
+    """Return the numbers, each multiplied by a factor."""
+    return [number * factor for number in numbers]
+
+
+def difference(one, other):
+    """Return the coefficients of one polynomial minus another one."""
+    many = max(len(one), len(other))
+    longer = one + [0] * (many - len(one))
+    taken = other + [0] * (many - len(other))
+    return trimmed([left - right for left, right in zip(longer, taken)])
+
+
+def product(one, other):
+    """Return the coefficients of the product of two polynomials."""
+    if one == [] or other == []:
+        return []
+    numbers = [0 for place in range(len(one) + len(other) - 1)]
+    for at, left in enumerate(one):
+        for shift, right in enumerate(other):
+            numbers[at + shift] = numbers[at + shift] + left * right
+    return numbers
+
+
+def split_whole(numbers, divisor):
+    """Return (factor, quotient, rest) with factor * numbers = quotient * divisor + rest.
+
+    All of them are integers; the factor, a power of the last number of the divisor, makes this possible.
+    The rest is shorter than the divisor.
+    """
+    lead = divisor[-1]
+    factor = 1
+    quotient = [0 for place in range(len(numbers) - len(divisor) + 1)]
+    rest = numbers
+    while len(rest) >= len(divisor):
+        top = rest[-1]
+        at = len(rest) - len(divisor)
+        factor = factor * lead
+        quotient = [number * lead for number in quotient]
+        quotient[at] = top
+        rest = difference(scaled(rest, lead), [0] * at + scaled(divisor, top))
+    return factor, quotient, rest
+
+
+def content(numbers):
+    """Return the greatest common divisor of some integers; 0 for none."""
+    shared = 0
+    for number in numbers:
+        shared = shared_factor(shared, number)
+    return shared
+
+
+def without_factor(numbers, factor):
+    """Return the integers, each divided by a factor that all of them have."""
+    return [number // factor for number in numbers]
+
+
+def value_at(poly, place):
+    """Return the value of a polynomial at a rational."""
+    numbers, scale = whole_parts(poly)
+    above, below = as_pair(place)
+    value = 0
+    # The value is kept multiplied by a power of the denominator, so that it stays an integer.
+    power = 1
+    for number in numbers[::-1]:
+        power = power * below
+        value = value * above + number * power
+    return lowest(value, scale * power)
+
+
+def divided(one, other):
+    """Return the pair of quotient and remainder; the remainder has a smaller degree than other or is ()."""
+    numbers, scale = whole_parts(one)
+    divisor, divisor_scale = whole_parts(other)
+    if divisor == []:
+        raise InvalidPolynomial()
+    factor, quotient, rest = split_whole(numbers, divisor)
+    whole = factor * scale
+    return as_polynomial(scaled(quotient, divisor_scale), whole), as_polynomial(rest, whole)
+
+
+def greatest_divisor(one, other):
+    """Return the greatest common divisor with the last coefficient 1; () if both are zero."""
+    high = whole_parts(one)[0]
+    low = whole_parts(other)[0]
+    while low != []:
+        rest = split_whole(high, low)[2]
+        # A factor of all numbers has no effect on the result, but without this the numbers would grow fast.
+        high, low = low, without_factor(rest, content(rest))
+    return monic(high)
+
+
+def next_row(high, low):
+    """Return the row (r, u, v) that follows two such rows in the algorithm of Euclid."""
+    factor, quotient, rest = split_whole(high[0], low[0])
+    u = difference(scaled(high[1], factor), product(quotient, low[1]))
+    v = difference(scaled(high[2], factor), product(quotient, low[2]))
+    # In each row r = u * first + v * second, all integers: a factor that u and v have is one of r, too.
+    shared = content(u + v)
+    return without_factor(rest, shared), without_factor(u, shared), without_factor(v, shared)
+
+
+def cofactors(one, other):
+    """Return (g, u, v): g is the greatest common divisor, and u * one + v * other = g."""
+    first, first_scale = whole_parts(one)
+    second, second_scale = whole_parts(other)
+    high = (first, [1], [])
+    low = (second, [], [1])
+    while low[0] != []:
+        high, low = low, next_row(high, low)
+    divisor, u, v = high
+    if divisor == []:
+        return (), (), ()
+    lead = divisor[-1]
+    return monic(divisor), as_polynomial(scaled(u, first_scale), lead), as_polynomial(scaled(v, second_scale), lead)

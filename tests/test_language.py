@@ -1,0 +1,178 @@
+"""The rules of the language subset that a program can check; the numbers are those of the rules."""
+
+import ast
+import builtins
+import re
+import unittest
+from pathlib import Path
+
+PACKAGE = Path(__file__).resolve().parent.parent / "rootbags"
+BUILTINS = set("""len range enumerate zip min max sum abs sorted reversed int str bool bytes list tuple dict set
+    frozenset isinstance ord repr any all divmod iter next property staticmethod classmethod super
+    Exception ValueError TypeError KeyError IndexError LookupError ZeroDivisionError ArithmeticError
+    OverflowError RuntimeError NotImplementedError AttributeError StopIteration NotImplemented""".split())
+METHODS = set("""append clear copy count endswith extend find get index insert isalnum isalpha isdigit islower
+    isspace isupper items join keys ljust lower lstrip partition pop remove replace reverse rfind rjust
+    rpartition rsplit rstrip setdefault split splitlines startswith strip update upper values zfill
+    bit_length title capitalize swapcase casefold center expandtabs removeprefix removesuffix rindex isascii
+    isdecimal isnumeric istitle isidentifier isprintable translate maketrans sort add discard""".split())
+DOUBLE = set("""init eq repr str len enter exit call iter lt le gt ge ne add sub mul floordiv mod pow and or xor
+    lshift rshift neg pos invert abs bool contains getitem setitem""".split())
+BARRED_NAMES = set("""register mro elements open input law version_info with_traceback add_note attrgetter
+    breakpoint builtins compile copyright credits delattr dir eval exec exit gc getattr globals hasattr help id
+    importlib license locals methodcaller os quit setattr type vars sys""".split())
+BARRED_WORDS = re.compile(r"\b(type|typing|typing_extensions|enum|Enum|IntEnum|StrEnum|Flag|IntFlag|Generic|Protocol"
+                          r"|ABC|ABCMeta|namedtuple|NamedTuple|TypedDict|TYPE_CHECKING|abstractmethod)\b"
+                          r"|dataclass|overload|contextmanager")
+BARRED_NODES = (ast.Global, ast.AsyncFunctionDef, ast.AsyncFor, ast.AsyncWith, ast.Await, ast.Import, ast.Div,
+                ast.MatMult)
+
+
+def files():
+    return sorted(path for path in PACKAGE.iterdir() if path.name != "__pycache__")
+
+
+def tree_of(path):
+    return ast.parse(path.read_text(encoding="utf-8"))
+
+
+def bound_at_module_level(tree):
+    """The names that the statements of a file bind, in order."""
+    names = []
+    for row in tree.body:
+        if isinstance(row, (ast.FunctionDef, ast.ClassDef)):
+            names.append(row.name)
+        elif isinstance(row, ast.ImportFrom):
+            names.extend(alias.asname or alias.name for alias in row.names)
+        elif isinstance(row, ast.Assign):
+            names.extend(target.id for target in row.targets)
+    return names
+
+
+def bound_names(tree):
+    """All names that a file binds anywhere."""
+    names = set()
+    for node in ast.walk(tree):
+        if isinstance(node, (ast.FunctionDef, ast.ClassDef)):
+            names.add(node.name)
+        elif isinstance(node, ast.arg):
+            names.add(node.arg)
+        elif isinstance(node, ast.Name) and not isinstance(node.ctx, ast.Load):
+            names.add(node.id)
+        elif isinstance(node, ast.alias):
+            names.add(node.asname or node.name)
+        elif isinstance(node, ast.ExceptHandler) and node.name:
+            names.add(node.name)
+    return names
+
+
+class Language(unittest.TestCase):
+    def nodes(self, *kinds):
+        for path in files():
+            for node in ast.walk(tree_of(path)):
+                if isinstance(node, kinds):
+                    yield f"{path.name}:{getattr(node, 'lineno', 0)}", node
+
+    def test_l1_l14_files(self):
+        for path in files():
+            self.assertTrue(path.is_file() and re.fullmatch(r"[a-z0-9_]+\.py", path.name), path)
+            text = path.read_text(encoding="utf-8")
+            self.assertRegex(text, r"\A[ -~\n]*\Z", path)
+            self.assertIsNone(BARRED_WORDS.search(text), path)
+
+    def test_l10_size(self):
+        for path in files():
+            lines = path.read_text(encoding="utf-8").split("\n")
+            self.assertLessEqual(len(lines) - 1, 399, path)
+            self.assertLessEqual(max(len(line) for line in lines), 120, path)
+        for place, node in self.nodes(ast.FunctionDef):
+            self.assertLessEqual(node.end_lineno - node.lineno + 1, 40, place)
+
+    def test_l2_l16_imports(self):
+        needs = {}
+        for path in files():
+            needs[path.stem] = []
+            for row in tree_of(path).body:
+                if isinstance(row, ast.ImportFrom) and row.module != "__future__":
+                    self.assertRegex(row.module, r"\Arootbags\.[a-z0-9_]+\Z", path)
+                    source = row.module.split(".")[1]
+                    needs[path.stem].append(source)
+                    defined = bound_at_module_level(tree_of(PACKAGE / f"{source}.py"))
+                    self.assertLessEqual({alias.name for alias in row.names}, set(defined), path)
+        done = set()
+        while len(done) < len(needs):
+            ready = {name for name in needs if name not in done and set(needs[name]) <= done}
+            self.assertTrue(ready, "files import from each other")
+            done |= ready
+
+    def test_l3_l15_module_level(self):
+        for path in files():
+            tree = tree_of(path)
+            for row in tree.body:
+                plain = isinstance(row, (ast.ImportFrom, ast.FunctionDef, ast.ClassDef))
+                named = isinstance(row, ast.Assign) and len(row.targets) == 1 and isinstance(row.targets[0], ast.Name)
+                text = isinstance(row, ast.Expr) and isinstance(row.value, ast.Constant)
+                self.assertTrue(plain or named or text, (path, row.lineno))
+            names = bound_at_module_level(tree)
+            self.assertEqual(len(names), len(set(names)), path)
+
+    def test_l15_no_local_name_of_a_class_or_an_import(self):
+        for path in files():
+            tree = tree_of(path)
+            outer = {row.name for row in tree.body if isinstance(row, ast.ClassDef)}
+            outer |= {alias.name for row in tree.body if isinstance(row, ast.ImportFrom) for alias in row.names}
+            for node in ast.walk(tree):
+                if isinstance(node, ast.arg):
+                    self.assertNotIn(node.arg, outer, (path, node.lineno))
+                if isinstance(node, ast.Name) and isinstance(node.ctx, ast.Store):
+                    self.assertNotIn(node.id, outer, (path, node.lineno))
+
+    def test_l6_l7_statements_and_values(self):
+        for place, node in self.nodes(*BARRED_NODES):
+            self.fail(f"{place}: {node}")
+        for place, node in self.nodes(ast.Constant):
+            self.assertNotIsInstance(node.value, (float, complex), place)
+            if isinstance(node.value, str):
+                self.assertNotIn(chr(37), node.value, place)
+        for place, node in self.nodes(ast.ExceptHandler):
+            self.assertIsNotNone(node.type, place)
+
+    def test_l8_l12_l15_l17_names(self):
+        for path in files():
+            tree = tree_of(path)
+            bound = bound_names(tree)
+            methods = {row.name for node in ast.walk(tree) if isinstance(node, ast.ClassDef)
+                       for row in node.body if isinstance(row, ast.FunctionDef)}
+            for name in bound:
+                double = re.fullmatch(r"__[ir]?([a-z]+)__", name)
+                self.assertTrue(name[0] != "_" or (name in methods and double), (path, name))
+                self.assertNotIn(name, BARRED_NAMES, path)
+                if name not in methods:
+                    self.assertFalse(hasattr(builtins, name), (path, name))
+            for name in methods:
+                if name.startswith("__"):
+                    self.assertTrue(name[2:-2] in DOUBLE or name[3:-2] in DOUBLE, (path, name))
+            for node in ast.walk(tree):
+                if isinstance(node, ast.Name) and isinstance(node.ctx, ast.Load) and node.id not in bound:
+                    self.assertIn(node.id, BUILTINS, (path, node.lineno))
+
+    def test_l20_is(self):
+        for place, node in self.nodes(ast.Compare):
+            for sign, right in zip(node.ops, node.comparators):
+                if isinstance(sign, (ast.Is, ast.IsNot)):
+                    self.assertTrue(isinstance(right, ast.Constant) and right.value in (None, True, False), place)
+
+    def test_l25_methods(self):
+        own = {node.name for _, node in self.nodes(ast.FunctionDef)}
+        for place, node in self.nodes(ast.Call):
+            if isinstance(node.func, ast.Attribute):
+                self.assertIn(node.func.attr, METHODS | own, place)
+
+    def test_l27_powers(self):
+        for place, node in self.nodes(ast.BinOp):
+            if isinstance(node.op, ast.Pow):
+                self.assertTrue(isinstance(node.right, ast.Constant) and 0 <= node.right.value <= 64, place)
+
+
+if __name__ == "__main__":
+    unittest.main()
