@@ -5,15 +5,8 @@ Long numbers then need few reductions to lowest terms, which are the slow part o
 """
 
 from rootbags.errors import InvalidPolynomial
-from rootbags.rationals import as_pair, least_multiple, lowest, shared_factor
-
-
-def trimmed(numbers):
-    """Return the numbers without the zeros at their end."""
-    many = len(numbers)
-    while many > 0 and numbers[many - 1] == 0:
-        many = many - 1
-    return numbers[:many]
+from rootbags.rationals import as_pair, least_multiple, lowest
+from rootbags.wholes import content, difference, product, scaled, shared_whole, split_whole, trimmed, without_factor
 
 
 def whole_parts(poly):
@@ -36,63 +29,6 @@ def monic(numbers):
     if numbers == []:
         return ()
     return as_polynomial(numbers, numbers[-1])
-
-
-def scaled(numbers, factor):
-    """Return the numbers, each multiplied by a factor."""
-    return [number * factor for number in numbers]
-
-
-def difference(one, other):
-    """Return the coefficients of one polynomial minus another one."""
-    many = max(len(one), len(other))
-    longer = one + [0] * (many - len(one))
-    taken = other + [0] * (many - len(other))
-    return trimmed([left - right for left, right in zip(longer, taken)])
-
-
-def product(one, other):
-    """Return the coefficients of the product of two polynomials."""
-    if one == [] or other == []:
-        return []
-    numbers = [0 for place in range(len(one) + len(other) - 1)]
-    for at, left in enumerate(one):
-        for shift, right in enumerate(other):
-            numbers[at + shift] = numbers[at + shift] + left * right
-    return numbers
-
-
-def split_whole(numbers, divisor):
-    """Return (factor, quotient, rest) with factor * numbers = quotient * divisor + rest.
-
-    All of them are integers; the factor, a power of the last number of the divisor, makes this possible.
-    The rest is shorter than the divisor.
-    """
-    lead = divisor[-1]
-    factor = 1
-    quotient = [0 for place in range(len(numbers) - len(divisor) + 1)]
-    rest = numbers
-    while len(rest) >= len(divisor):
-        top = rest[-1]
-        at = len(rest) - len(divisor)
-        factor = factor * lead
-        quotient = [number * lead for number in quotient]
-        quotient[at] = top
-        rest = difference(scaled(rest, lead), [0] * at + scaled(divisor, top))
-    return factor, quotient, rest
-
-
-def content(numbers):
-    """Return the greatest common divisor of some integers; 0 for none."""
-    shared = 0
-    for number in numbers:
-        shared = shared_factor(shared, number)
-    return shared
-
-
-def without_factor(numbers, factor):
-    """Return the integers, each divided by a factor that all of them have."""
-    return [number // factor for number in numbers]
 
 
 def value_at(poly, place):
@@ -121,13 +57,7 @@ def divided(one, other):
 
 def greatest_divisor(one, other):
     """Return the greatest common divisor with the last coefficient 1; () if both are zero."""
-    high = whole_parts(one)[0]
-    low = whole_parts(other)[0]
-    while low != []:
-        rest = split_whole(high, low)[2]
-        # A factor of all numbers has no effect on the result, but without this the numbers would grow fast.
-        high, low = low, without_factor(rest, content(rest))
-    return monic(high)
+    return monic(shared_whole(whole_parts(one)[0], whole_parts(other)[0]))
 
 
 def next_row(high, low):

@@ -43,6 +43,12 @@ def as_pair(value):
     return (numerator, denominator)
 
 
+def rational(value):
+    """Return the rational of an argument in lowest terms."""
+    numerator, denominator = as_pair(value)
+    return lowest(numerator, denominator)
+
+
 def whole_text(number):
     """Return the text of an integer.
 
@@ -61,8 +67,7 @@ def whole_text(number):
 
 def number_text(value):
     """Return the text of a rational."""
-    above, below = as_pair(value)
-    numerator, denominator = lowest(above, below)
+    numerator, denominator = rational(value)
     if denominator == 1:
         return whole_text(numerator)
     return whole_text(numerator) + "/" + whole_text(denominator)

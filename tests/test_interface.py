@@ -4,22 +4,81 @@ import inspect
 import unittest
 from pathlib import Path
 
+from rootbags.bags import Bag
+
 ROOT = Path(__file__).resolve().parent.parent
 
+# The parameters as the document shows them: those behind "*" are keyword-only.
 FUNCTIONS = {
     "rationals": {
-        "lowest": ["numerator", "denominator"],
-        "number_text": ["value"],
-        "parse_number": ["text"],
+        "lowest": "(numerator, denominator)",
+        "number_text": "(value)",
+        "parse_number": "(text)",
     },
     "polynomials": {
-        "value_at": ["poly", "place"],
-        "divided": ["one", "other"],
-        "greatest_divisor": ["one", "other"],
-        "cofactors": ["one", "other"],
+        "value_at": "(poly, place)",
+        "divided": "(one, other)",
+        "greatest_divisor": "(one, other)",
+        "cofactors": "(one, other)",
+    },
+    "operations": {
+        "joined": "(*bags)",
+        "pair_sums": "(one, other, *, road='sums')",
+        "pair_differences": "(one, other, *, road='sums')",
+        "pair_products": "(one, other, *, road='sums')",
+        "inverses": "(bag, *, road='sums')",
+        "pair_quotients": "(one, other, *, road='sums')",
+        "powers": "(bag, exponent, *, road='sums')",
+        "mapped": "(bag, rule, *, road='sums')",
+        "choice_sums": "(bag, many, *, road='sums')",
+        "choice_products": "(bag, many, *, road='sums')",
+        "successive_powers": "(bag, most)",
+    },
+    "parts": {
+        "distinct": "(bag)",
+        "common": "(one, other)",
+        "without": "(one, other)",
+        "is_inside": "(one, other)",
+        "containment": "(one, other)",
+        "containment_holds": "(one, other, claimed)",
+        "meeting": "(one, other)",
+        "meeting_holds": "(one, other, claimed)",
+        "parts_by_count": "(bag)",
+    },
+    "reals": {"count_real": "(bag, *, above=None, to=None)"},
+}
+CLASSES = {
+    "bags": {
+        "Bag": {
+            "__init__": "(self, parts)",
+            "of": "(cls, *numbers)",
+            "of_sums": "(cls, sums)",
+            "coefficients": "(self)",
+            "power_sums": "(self, most=None)",
+            "often": "(self, value)",
+            "__len__": "(self)",
+            "__eq__": "(self, other)",
+            "__repr__": "(self)",
+            "__contains__": "(self, x)",
+            "__or__": "(self, other)",
+            "__and__": "(self, other)",
+            "__neg__": "(self)",
+            "__add__": "(self, other)",
+            "__sub__": "(self, other)",
+            "__mul__": "(self, other)",
+        },
     },
 }
-CONSTANTS = {"rationals": {"MAX_FIGURES": 100}}
+PROPERTIES = {"bags": {"Bag": ["size"]}}
+CLASS_METHODS = {"bags": {"Bag": ["of", "of_sums"]}}
+CLASS_VALUES = {"bags": {"Bag": {"MOST": 40}}}
+CONSTANTS = {
+    "rationals": {"MAX_FIGURES": 100},
+    "bags": {"MAX_SIZE": 40, "MAX_DIGITS": 100, "MAX_SUMS": 200},
+    "operations": {"ROADS": ("sums", "matrices"), "MAX_EXPONENT": 16, "MAX_DEGREE": 6},
+}
+ONE = Bag((3, -1, 1))
+OTHER = Bag((1, 2, 5))
 CALLS = (
     ("rationals", "lowest", (6, -4)),
     ("rationals", "number_text", ((6, -4),)),
@@ -28,6 +87,25 @@ CALLS = (
     ("polynomials", "divided", (((6, -4), 5, 1, 0), (1, (2, -4), 0))),
     ("polynomials", "greatest_divisor", (((6, -4), 5, 1, 0), (1, (2, -4), 0))),
     ("polynomials", "cofactors", (((6, -4), 5, 1, 0), (1, (2, -4), 0))),
+    ("operations", "pair_sums", (ONE, OTHER)),
+    ("operations", "pair_differences", (ONE, OTHER)),
+    ("operations", "pair_products", (ONE, OTHER)),
+    ("operations", "inverses", (ONE,)),
+    ("operations", "pair_quotients", (ONE, OTHER)),
+    ("operations", "powers", (ONE, 3)),
+    ("operations", "mapped", (ONE, [1, (2, -4), 0])),
+    ("operations", "choice_sums", (ONE, 2)),
+    ("operations", "choice_products", (ONE, 2)),
+    ("parts", "distinct", (ONE,)),
+    ("parts", "common", (ONE, OTHER)),
+    ("parts", "without", (ONE, OTHER)),
+    ("parts", "is_inside", (ONE, OTHER)),
+    ("parts", "containment", (ONE, OTHER)),
+    ("parts", "containment_holds", (ONE, OTHER, ("outside", ONE, (1, 0), ((2, -4),)))),
+    ("parts", "meeting", (ONE, OTHER)),
+    ("parts", "meeting_holds", (ONE, OTHER, ("apart", (1, 0), ((2, -4),)))),
+    ("parts", "parts_by_count", (ONE,)),
+    ("reals", "count_real", (ONE,)),
 )
 
 
@@ -42,11 +120,24 @@ class Interface(unittest.TestCase):
                 found = getattr(module(name), function)
                 self.assertTrue(inspect.isfunction(found), function)
                 self.assertEqual(found.__module__, f"rootbags.{name}")
-                signature = inspect.signature(found)
-                self.assertEqual(list(signature.parameters), parameters, function)
-                for parameter in signature.parameters.values():
-                    self.assertEqual(parameter.kind, inspect.Parameter.POSITIONAL_OR_KEYWORD, function)
-                    self.assertIs(parameter.default, inspect.Parameter.empty, function)
+                self.assertEqual(str(inspect.signature(found)), parameters, function)
+
+    def test_classes_have_their_methods_in_their_own_bodies(self):
+        for name, classes in CLASSES.items():
+            for kind, methods in classes.items():
+                found = getattr(module(name), kind)
+                self.assertTrue(inspect.isclass(found))
+                self.assertEqual(found.__module__, f"rootbags.{name}")
+                for method, parameters in methods.items():
+                    self.assertIn(method, vars(found))
+                    plain = getattr(vars(found)[method], "__func__", vars(found)[method])
+                    self.assertEqual(str(inspect.signature(plain)), parameters, method)
+                for method in CLASS_METHODS[name][kind]:
+                    self.assertIsInstance(vars(found)[method], classmethod)
+                for value in PROPERTIES[name][kind]:
+                    self.assertIsInstance(vars(found)[value], property)
+                for value, worth in CLASS_VALUES[name][kind].items():
+                    self.assertEqual(vars(found)[value], worth)
 
     def test_constants(self):
         for name, constants in CONSTANTS.items():
@@ -61,7 +152,7 @@ class GeneralRules(unittest.TestCase):
     def test_calls_by_position_and_by_name_are_equal(self):
         for name, function, arguments in CALLS:
             called = getattr(module(name), function)
-            by_name = dict(zip(FUNCTIONS[name][function], arguments))
+            by_name = dict(zip(inspect.signature(called).parameters, arguments))
             self.assertEqual(called(*arguments), called(**by_name), function)
 
     def test_equal_calls_return_equal_results_and_change_no_arguments(self):

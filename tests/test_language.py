@@ -24,6 +24,9 @@ BARRED_NAMES = set("""register mro elements open input law version_info with_tra
 BARRED_WORDS = re.compile(r"\b(type|typing|typing_extensions|enum|Enum|IntEnum|StrEnum|Flag|IntFlag|Generic|Protocol"
                           r"|ABC|ABCMeta|namedtuple|NamedTuple|TypedDict|TYPE_CHECKING|abstractmethod)\b"
                           r"|dataclass|overload|contextmanager")
+CHANGING = set("""append clear extend insert pop remove reverse setdefault update sort add discard""".split())
+PURE_DOUBLE = DOUBLE - {"init", "enter", "exit", "call", "iter", "setitem"}
+TWO_OPERANDS = set("eq lt le gt ge ne add sub mul floordiv mod pow and or xor lshift rshift".split())
 BARRED_NODES = (ast.Global, ast.AsyncFunctionDef, ast.AsyncFor, ast.AsyncWith, ast.Await, ast.Import, ast.Div,
                 ast.MatMult)
 
@@ -64,6 +67,71 @@ def bound_names(tree):
         elif isinstance(node, ast.ExceptHandler) and node.name:
             names.add(node.name)
     return names
+
+
+def functions_by_name():
+    """All functions and methods of the package by their names; a class stands for its __init__."""
+    named = {}
+    for path in files():
+        for node in ast.walk(tree_of(path)):
+            if isinstance(node, ast.FunctionDef):
+                named.setdefault(node.name, []).append((path.name, node))
+            elif isinstance(node, ast.ClassDef):
+                for row in node.body:
+                    if isinstance(row, ast.FunctionDef) and row.name == "__init__":
+                        named.setdefault(node.name, []).append((path.name, row))
+    return named
+
+
+def is_property(node):
+    return any(isinstance(row, ast.Name) and row.id == "property" for row in node.decorator_list)
+
+
+def names_used(node):
+    """The names of functions, classes, methods and properties that a function may call."""
+    names = set()
+    for row in ast.walk(node):
+        if isinstance(row, ast.Call) and isinstance(row.func, ast.Name):
+            names.add(row.func.id)
+        elif isinstance(row, ast.Attribute):
+            names.add(row.attr)
+    return names
+
+
+def reached_by_operators():
+    """The functions that must change nothing: operators, properties, __eq__ and the like, and all that they call."""
+    named = functions_by_name()
+    waiting = [name for name in named if name.startswith("__") and name[2:-2] in PURE_DOUBLE]
+    waiting += [name for name, rows in named.items() if any(is_property(node) for _, node in rows)]
+    done = {}
+    while waiting:
+        name = waiting.pop()
+        if name not in done and name in named:
+            done[name] = named[name]
+            for _, node in named[name]:
+                waiting.extend(names_used(node))
+    return [row for rows in done.values() for row in rows]
+
+
+def is_own_list(value):
+    """Whether a value is a list or dict that is created on the spot."""
+    called = isinstance(value, ast.Call) and isinstance(value.func, ast.Name)
+    return isinstance(value, (ast.List, ast.ListComp)) or (called and value.func.id in ("list", "dict", "sorted"))
+
+
+def own_lists(node):
+    """The local names of a function that are assigned nothing but lists that it creates."""
+    values = {}
+    for row in ast.walk(node):
+        if isinstance(row, ast.Assign):
+            for target in row.targets:
+                if isinstance(target, ast.Name):
+                    values.setdefault(target.id, []).append(row.value)
+        elif isinstance(row, (ast.For, ast.comprehension)):
+            for name in ast.walk(row.target):
+                if isinstance(name, ast.Name):
+                    values.setdefault(name.id, []).append(None)
+    return {name for name, found in values.items() if all(is_own_list(value) for value in found)}
 
 
 class Language(unittest.TestCase):
@@ -172,6 +240,88 @@ class Language(unittest.TestCase):
         for place, node in self.nodes(ast.BinOp):
             if isinstance(node.op, ast.Pow):
                 self.assertTrue(isinstance(node.right, ast.Constant) and 0 <= node.right.value <= 64, place)
+
+    def test_l5_operators_change_nothing(self):
+        reached = reached_by_operators()
+        self.assertGreater(len(reached), 30)
+        for file, node in reached:
+            place = (file, node.name)
+            own = own_lists(node)
+            parameters = {argument.arg for argument in ast.walk(node) if isinstance(argument, ast.arg)}
+            for row in ast.walk(node):
+                self.assertNotIsInstance(row, (ast.AugAssign, ast.Delete, ast.Nonlocal, ast.NamedExpr), place)
+                if isinstance(row, ast.Attribute) and not isinstance(row.ctx, ast.Load):
+                    self.assertEqual((node.name, row.value.id), ("__init__", "self"), place)
+                if isinstance(row, ast.Subscript) and not isinstance(row.ctx, ast.Load):
+                    self.assertIn(row.value.id, own, place)
+                if isinstance(row, ast.Call) and isinstance(row.func, ast.Attribute) and row.func.attr in CHANGING:
+                    self.assertIn(row.func.value.id, own, place)
+                if isinstance(row, ast.Call):
+                    self.assertIsInstance(row.func, (ast.Name, ast.Attribute), place)
+                    if isinstance(row.func, ast.Name):
+                        self.assertNotIn(row.func.id, parameters - {"cls"}, place)
+
+    def test_l5_l28_double_underscore_methods(self):
+        for place, kind in self.nodes(ast.ClassDef):
+            for node in kind.body:
+                if not (isinstance(node, ast.FunctionDef) and node.name.startswith("__")):
+                    continue
+                names = [argument.arg for argument in node.args.args]
+                if node.name[2:-2] in TWO_OPERANDS:
+                    self.assertEqual(names, ["self", "other"], place)
+                if node.name in ("__len__", "__repr__", "__str__", "__neg__", "__bool__"):
+                    self.assertEqual(names, ["self"], place)
+                returned = [row.value for row in ast.walk(node) if isinstance(row, ast.Return)]
+                if node.name == "__len__":
+                    self.assertTrue(all(isinstance(value, ast.Call) and value.func.id == "len" for value in returned))
+                if node.name in ("__repr__", "__str__"):
+                    self.assertTrue(all(isinstance(value, ast.JoinedStr) for value in returned), place)
+                if node.name == "__init__":
+                    self.assertEqual(returned, [], place)
+
+    def test_l5_decorators_and_bases(self):
+        for place, node in self.nodes(ast.FunctionDef):
+            for row in node.decorator_list:
+                word = ast.unparse(row).split(".")[-1]
+                self.assertIn(word, ("property", "classmethod", "staticmethod", "setter"), place)
+            self.assertEqual(node.args.posonlyargs, [], place)
+        for place, node in self.nodes(ast.ClassDef):
+            self.assertEqual((node.decorator_list, node.keywords), ([], []), place)
+
+    def test_l7_no_generator_expressions(self):
+        # Where a class has __eq__, all functions that would take one take a list.
+        for place, node in self.nodes(ast.GeneratorExp):
+            self.fail(place)
+
+    def test_l18_no_name_is_a_method_and_an_attribute(self):
+        methods, attributes, read = set(), set(), set()
+        for _, kind in self.nodes(ast.ClassDef):
+            methods |= {row.name for row in kind.body if isinstance(row, ast.FunctionDef)}
+            attributes |= {target.id for row in kind.body if isinstance(row, ast.Assign) for target in row.targets}
+        for _, node in self.nodes(ast.Attribute):
+            (read if isinstance(node.ctx, ast.Load) else attributes).add(node.attr)
+        self.assertEqual(methods & attributes, set())
+        self.assertLessEqual(read, methods | attributes | METHODS)
+
+    def test_l22_keywords_of_builtins(self):
+        for place, node in self.nodes(ast.Call):
+            if isinstance(node.func, ast.Name) and hasattr(builtins, node.func.id):
+                self.assertLessEqual({row.arg for row in node.keywords}, {"key", "reverse", "default", "start"}, place)
+
+    def test_l23_generators_have_names_of_their_own(self):
+        named = functions_by_name()
+        for place, node in self.nodes(ast.FunctionDef):
+            if any(isinstance(row, (ast.Yield, ast.YieldFrom)) for row in ast.walk(node)):
+                self.assertEqual(len(named[node.name]), 1, place)
+
+    def test_l23_what_a_loop_iterates_over_is_not_changed(self):
+        for place, node in self.nodes(ast.For):
+            iterated = {row.id for row in ast.walk(node.iter) if isinstance(row, ast.Name)}
+            for row in [part for line in node.body for part in ast.walk(line)]:
+                if isinstance(row, ast.Subscript) and not isinstance(row.ctx, ast.Load):
+                    self.assertNotIn(row.value.id, iterated, place)
+                if isinstance(row, ast.Call) and isinstance(row.func, ast.Attribute) and row.func.attr in CHANGING:
+                    self.assertNotIn(row.func.value.id, iterated, place)
 
 
 if __name__ == "__main__":

@@ -1,0 +1,88 @@
+"""The examples of the document, for the modules that have landed."""
+
+import doctest
+import unittest
+
+EXAMPLES = """
+>>> from rootbags.rationals import lowest
+>>> lowest(6, -4)
+(-3, 2)
+>>> from rootbags.rationals import number_text
+>>> number_text((6, -4))
+'-3/2'
+>>> from rootbags.rationals import parse_number
+>>> parse_number('-3/2')
+(-3, 2)
+>>> from rootbags.polynomials import value_at
+>>> value_at((1, 0, 1), (1, 2))
+(5, 4)
+>>> from rootbags.polynomials import divided
+>>> divided((-1, 0, 1), (1, 1))
+(((-1, 1), (1, 1)), ())
+>>> from rootbags.polynomials import greatest_divisor
+>>> greatest_divisor((-1, 0, 1), (2, 2))
+((1, 1), (1, 1))
+>>> from rootbags.bags import Bag
+>>> Bag((-4, 0, 2)).coefficients()
+[(-2, 1), (0, 1), (1, 1)]
+>>> Bag.of(1, 2).coefficients()
+[(2, 1), (-3, 1), (1, 1)]
+>>> Bag.of_sums([2, 3, 5]) == Bag.of(1, 2)
+True
+>>> Bag((-2, 0, 1)).power_sums()
+[(2, 1), (0, 1), (4, 1)]
+>>> Bag.of(1, 2, 1).often(1)
+2
+>>> [(1, 2) in Bag((-1, 2)), repr(Bag.of())]
+[True, 'Bag(0 numbers)']
+>>> (Bag((-2, 0, 1)) + Bag.of(1)).coefficients()
+[(-1, 1), (-2, 1), (1, 1)]
+>>> from rootbags.operations import joined
+>>> joined(Bag.of(1), Bag.of(), Bag.of(2)) == Bag.of(2, 1)
+True
+>>> from rootbags.operations import pair_products
+>>> pair_products(Bag((-2, 0, 1)), Bag((-3, 0, 1)), road='matrices').coefficients()
+[(36, 1), (0, 1), (-12, 1), (0, 1), (1, 1)]
+>>> from rootbags.operations import inverses
+>>> inverses(Bag((1, 3, 1))) == Bag((1, 3, 1))
+True
+>>> from rootbags.operations import powers
+>>> powers(Bag((-2, 0, 1)), 2) == Bag.of(2, 2)
+True
+>>> from rootbags.operations import mapped
+>>> mapped(Bag((-2, 0, 1)), (1, 2)).coefficients()
+[(-7, 1), (-2, 1), (1, 1)]
+>>> from rootbags.operations import choice_sums
+>>> choice_sums(Bag.of(1, 2, 4), 2) == Bag.of(3, 5, 6)
+True
+>>> from rootbags.parts import without
+>>> without(Bag.of(1, 1, 2), Bag.of(1, 3)) == Bag.of(1, 2)
+True
+>>> from rootbags.parts import is_inside
+>>> is_inside(Bag((-2, 0, 1)), Bag((0, -2, 0, 1)))
+True
+>>> from rootbags.parts import containment
+>>> containment(Bag.of(1), Bag.of(1, 2))[1] == Bag.of(2)
+True
+>>> from rootbags.parts import meeting
+>>> meeting(Bag.of(1, 2), Bag.of(2, 3))[1] == Bag.of(2)
+True
+>>> from rootbags.parts import parts_by_count
+>>> [count for count, part in parts_by_count(Bag.of(5, 7, 5))]
+[1, 2]
+>>> from rootbags.reals import count_real
+>>> [count_real(Bag((-2, 0, 1))), count_real(Bag((-2, 0, 1)), above=0, to=1)]
+[2, 0]
+"""
+
+
+class Examples(unittest.TestCase):
+    def test_examples(self):
+        examples = doctest.DocTestParser().get_doctest(EXAMPLES, {}, "examples", None, 0)
+        result = doctest.DocTestRunner().run(examples)
+        self.assertGreater(result.attempted, 30)
+        self.assertEqual(result.failed, 0)
+
+
+if __name__ == "__main__":
+    unittest.main()
