@@ -26,12 +26,6 @@ def check_exponent(exponent):
         raise InvalidExponent(exponent)
 
 
-def check_divisors(bag):
-    """Raise ContainsZero if zero is among the divisors."""
-    if bag.whole[0] == 0:
-        raise ContainsZero()
-
-
 def check_choice(bag, many):
     """Raise InvalidChoice for a negative number, and SizeExceeded if there are too many choices."""
     if many < 0:
@@ -81,16 +75,15 @@ def pair_products(one, other, *, road="sums"):
 def inverses(bag, *, road="sums"):
     """Return the bag of the reciprocals."""
     check_road(road)
-    check_divisors(bag)
+    if bag.whole[0] == 0:
+        raise ContainsZero()
     # The coefficients in the other order are those of the reciprocals, so that neither method is needed.
     return Bag(bag.whole[::-1])
 
 
 def pair_quotients(one, other, *, road="sums"):
     """Return the bag of the quotients of all pairs."""
-    check_road(road)
-    check_divisors(other)
-    return pair_products(one, inverses(other), road=road)
+    return pair_products(one, inverses(other, road=road), road=road)
 
 
 def values_by_matrix(bag, rule, rule_scale):

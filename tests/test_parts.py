@@ -100,6 +100,17 @@ class Parts(PartsCase):
         self.assertEqual(without(*long), long[0])
         self.assertEqual(distinct(long[0]), long[0])
 
+    def test_numbers_that_are_zero_modulo_a_prime(self):
+        # The quick test for common numbers takes all coefficients modulo 2 ** 61 - 1.
+        prime = 2 ** 61 - 1
+        for number in (prime, (1, prime), (5, 3 * prime)):
+            one, other = Bag.of(number, number, 1), Bag.of(number, number, number, 2)
+            self.assertEqual(common(one, other), Bag.of(number, number))
+            self.assertEqual(without(other, one), Bag.of(number, 2))
+            self.assertEqual(distinct(one), Bag.of(number, 1))
+            self.assertEqual(meeting(one, other)[0], "shared")
+            self.assertEqual(meeting(one, Bag.of(0, 5))[0], "apart")
+
     def test_parts_by_count(self):
         self.assertEqual(parts_by_count(Bag.of(5, 7, 5)), [(1, Bag.of(7)), (2, Bag.of(5))])
         self.assertEqual(parts_by_count(EMPTY), [])

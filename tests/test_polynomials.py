@@ -182,6 +182,17 @@ class GreatestDivisor(TwoPolynomials):
         self.assertEqual(greatest_divisor((-1,) + (0,) * 299 + (1,), (-1,) + (0,) * 199 + (1,)),
                          ((-1, 1),) + ((0, 1),) * 99 + ((1, 1),))
 
+    def test_numbers_that_are_zero_modulo_a_prime(self):
+        # The quick test for common roots takes all numbers modulo 2 ** 61 - 1.
+        prime = 2 ** 61 - 1
+        for shared in ([1, prime], [prime, 1], [3, 5 * prime, prime], [1, 0, 2 * prime]):
+            for one, other in (([-1, 1], [-2, 1]), ([prime, 1], [0, 1]), ([1, prime], [1, 1]), ([1], [1, 5])):
+                one, other, common = [[Fraction(number) for number in row] for row in (one, other, shared)]
+                found = greatest_divisor(polynomial(times(one, common)), polynomial(times(other, common)))
+                self.assertEqual(found, polynomial([value / common[-1] for value in common]))
+        self.assertEqual(greatest_divisor((prime, 1), (2 * prime, 1)), ((1, 1),))
+        self.assertEqual(greatest_divisor((0, 1), (prime, prime)), ((1, 1),))
+
     def test_denominator_zero(self):
         for wrong in WRONG:
             for right in ZEROS + ((1, 2),):
