@@ -9,7 +9,8 @@ def choices_of(size, many):
     if many > size:
         return 0
     found = 1
-    for at in range(many):
+    # There are as many choices of what is taken as of what is left.
+    for at in range(min(many, size - many)):
         found = found * (size - at) // (at + 1)
     return found
 

@@ -73,6 +73,48 @@ True
 >>> from rootbags.reals import count_real
 >>> [count_real(Bag((-2, 0, 1))), count_real(Bag((-2, 0, 1)), above=0, to=1)]
 [2, 0]
+>>> from rootbags.rounds import unity
+>>> unity(6).coefficients()
+[(1, 1), (-1, 1), (1, 1)]
+>>> from rootbags.rounds import come_round
+>>> [come_round(Bag.of(0, -1)), come_round(Bag((-1, -1, 1)))]
+[('round',), ('apart', 1, 1)]
+>>> from rootbags.rounds import orders
+>>> orders(Bag((0, -1, 0, 1)))
+[(0, 1), (1, 1), (2, 1)]
+>>> from rootbags.terms import parse_term
+>>> parse_term('-a + {1, 2/4} ^ 2')
+('sum', ('negative', ('name', 'a')), ('power', ('list', ((1, 1), (1, 2))), 2))
+>>> from rootbags.terms import format_term
+>>> format_term(parse_term('(a*b)|((c))-(d-e)'))
+'a * b | c - (d - e)'
+>>> from rootbags.terms import names_in
+>>> names_in(parse_term('b + a * b'))
+['a', 'b']
+>>> from rootbags.terms import node_count
+>>> node_count(parse_term('sums(a + {1}, 2)'))
+4
+>>> from rootbags.evaluation import size_bound
+>>> size_bound(parse_term('sums(a, 2) | b'), {'a': 4, 'b': 1})
+7
+>>> from rootbags.evaluation import evaluate
+>>> evaluate(parse_term('a + a'), {'a': Bag.of(1, 2)}) == Bag.of(2, 3, 3, 4)
+True
+>>> from rootbags.evaluation import value_of
+>>> value_of('x * x', x=Bag.of(2)) == Bag.of(4)
+True
+>>> from rootbags.plans import compiled
+>>> compiled(parse_term('a + a'))
+([('name', 'a'), ('sum', 0, 0)], [1])
+>>> from rootbags.plans import plan_trees
+>>> plan_trees(([('name', 'a'), ('power', 0, 0)], [1]))
+[('power', ('name', 'a'), 0)]
+>>> from rootbags.plans import run_plan
+>>> run_plan(([('name', 'a'), ('sum', 0, 0)], [1, 0]), {'a': Bag.of(3)}) == [Bag.of(6), Bag.of(3)]
+True
+>>> from rootbags.plans import plan_table
+>>> plan_table(([('name', 'a'), ('sum', 0, 0)], [1]))
+['  0 name      |      ', '  1 sum       |   0,0']
 """
 
 
@@ -80,7 +122,7 @@ class Examples(unittest.TestCase):
     def test_examples(self):
         examples = doctest.DocTestParser().get_doctest(EXAMPLES, {}, "examples", None, 0)
         result = doctest.DocTestRunner().run(examples)
-        self.assertGreater(result.attempted, 30)
+        self.assertGreater(result.attempted, 60)
         self.assertEqual(result.failed, 0)
 
 

@@ -5,6 +5,7 @@ import unittest
 from pathlib import Path
 
 from rootbags.bags import Bag
+from rootbags.terms import parse_term
 
 ROOT = Path(__file__).resolve().parent.parent
 
@@ -46,6 +47,29 @@ FUNCTIONS = {
         "parts_by_count": "(bag)",
     },
     "reals": {"count_real": "(bag, *, above=None, to=None)"},
+    "rounds": {
+        "unity": "(order)",
+        "come_round": "(bag)",
+        "round_holds": "(bag, claimed)",
+        "orders": "(bag)",
+    },
+    "terms": {
+        "parse_term": "(text)",
+        "format_term": "(tree)",
+        "names_in": "(tree)",
+        "node_count": "(tree)",
+    },
+    "evaluation": {
+        "size_bound": "(tree, sizes)",
+        "evaluate": "(tree, bags, *, road='sums')",
+        "value_of": "(text, *, road='sums', **bags)",
+    },
+    "plans": {
+        "compiled": "(*trees)",
+        "plan_trees": "(plan)",
+        "run_plan": "(plan, bags, *, road='sums')",
+        "plan_table": "(plan)",
+    },
 }
 CLASSES = {
     "bags": {
@@ -76,9 +100,13 @@ CONSTANTS = {
     "rationals": {"MAX_FIGURES": 100},
     "bags": {"MAX_SIZE": 40, "MAX_DIGITS": 100, "MAX_SUMS": 200},
     "operations": {"ROADS": ("sums", "matrices"), "MAX_EXPONENT": 16, "MAX_DEGREE": 6},
+    "rounds": {"MAX_ORDER": 150},
+    "terms": {"MAX_TEXT": 400, "MAX_OPEN": 20, "MAX_NODES": 60},
 }
 ONE = Bag((3, -1, 1))
 OTHER = Bag((1, 2, 5))
+TREE = parse_term("-map([1, 2], one) | sums(other + {1, 2/4}, 2)")
+PLAN = ([("name", "one"), ("name", "other"), ("sum", 0, 1), ("power", 2, 0)], [3, 0, 2])
 CALLS = (
     ("rationals", "lowest", (6, -4)),
     ("rationals", "number_text", ((6, -4),)),
@@ -106,6 +134,20 @@ CALLS = (
     ("parts", "meeting_holds", (ONE, OTHER, ("apart", (1, 0), ((2, -4),)))),
     ("parts", "parts_by_count", (ONE,)),
     ("reals", "count_real", (ONE,)),
+    ("rounds", "unity", (12,)),
+    ("rounds", "come_round", (ONE,)),
+    ("rounds", "round_holds", (ONE, ("apart", 0, 0))),
+    ("rounds", "orders", (Bag.of(0, 1, -1),)),
+    ("terms", "parse_term", (" -a | {1, 2/4}",)),
+    ("terms", "format_term", (TREE,)),
+    ("terms", "names_in", (TREE,)),
+    ("terms", "node_count", (TREE,)),
+    ("evaluation", "size_bound", (TREE, {"other": 3, "one": 2, "more": 7})),
+    ("evaluation", "evaluate", (TREE, {"other": OTHER, "one": ONE, "more": OTHER})),
+    ("evaluation", "value_of", ("{1, 2/4} ^ 2",)),
+    ("plans", "plan_trees", (PLAN,)),
+    ("plans", "run_plan", (PLAN, {"other": OTHER, "one": ONE, "more": OTHER})),
+    ("plans", "plan_table", (PLAN,)),
 )
 
 
