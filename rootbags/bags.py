@@ -36,17 +36,20 @@ def numbers_of_pairs(pairs):
 
 
 def lowest_by(number, power, base):
-    """Return the rational number / power, where power is a power of base.
+    """Return the rational number / power, where power has only prime factors of the base.
 
     What both share consists of factors of the base, which is much shorter: so this is quicker than lowest.
     """
+    if number == 0:
+        return (0, 1)
     above = number
     below = power
     shared = shared_factor(below, shared_factor(base, above))
     while shared > 1:
         above = above // shared
         below = below // shared
-        shared = shared_factor(below, shared_factor(shared, above))
+        # The square, so that a factor that both have very often is not divided out one by one.
+        shared = shared_factor(below, shared_factor(shared * shared, above))
     return (above, below)
 
 

@@ -1,4 +1,4 @@
-"""The examples of the document, for the modules that have landed."""
+"""The examples of the document."""
 
 import doctest
 import unittest
@@ -115,6 +115,53 @@ True
 >>> from rootbags.plans import plan_table
 >>> plan_table(([('name', 'a'), ('sum', 0, 0)], [1]))
 ['  0 name      |      ', '  1 sum       |   0,0']
+>>> from rootbags.rows import Row, first_difference
+>>> first_difference(Row(Bag.of(1), 2), Row(Bag.of(1, 0), 2, 2)) is None
+True
+>>> from rootbags.rows import follows
+>>> follows(Bag((-1, -1, 1)), [1, 1, 2, 3, 5])
+True
+>>> Row(Bag((-1, -1, 1)), 0, 1).terms(7)[-1]
+(8, 1)
+>>> Row(Bag.of((1, 2)), 3)(4)
+(3, 16)
+>>> list(Row(Bag.of(2), 1).walk(first=2, many=2))
+[(4, 1), (8, 1)]
+>>> Row(Bag.of(2), 1).residue(100, 7)
+2
+>>> (Row(Bag.of(2), 1) + Row(Bag.of(3), 1)).terms(3)
+[(2, 1), (5, 1), (13, 1)]
+>>> Row(Bag.of(2), 1).total().terms(4)
+[(1, 1), (3, 1), (7, 1), (15, 1)]
+>>> Row(Bag.of(2), 1).every(3, first=1).terms(2)
+[(2, 1), (16, 1)]
+>>> from rootbags.shelf import Shelf
+>>> [len(Shelf()), Shelf.MOST, repr(Shelf())]
+[0, 12, 'Shelf(0 names)']
+>>> shelf = Shelf()
+>>> shelf.apply_all([('define', 'a', '{2}'), ('define', 'b', 'a + a')])
+>>> shelf.value('b').coefficients()
+[(-4, 1), (1, 1)]
+>>> [shelf.computed, shelf.kept()]
+[2, ['a', 'b']]
+>>> shelf = Shelf()
+>>> shelf.apply(('define', 'a', '{2}^3'))
+>>> shelf.table()
+['a       |  2|{2} ^ 3']
+>>> from rootbags.shelf import LoggedShelf
+>>> shelf = LoggedShelf()
+>>> shelf.apply(('define', 'a', '{}'))
+>>> [shelf.log(), shelf.refused]
+[[(('define', 'a', '{}'),)], 0]
+>>> from rootbags.snapshots import read_snapshot, write_snapshot
+>>> write_snapshot(read_snapshot('a = {1}\\nb = a | a\\n'))
+'a = {1}\\nb = a | a\\n'
+>>> from rootbags.console import Console
+>>> console = Console()
+>>> console.run('define a roots([-2, 0, 1])')
+'ok'
+>>> [console.run('bag a'), console.run('round a')]
+['-2, 0, 1', 'no']
 """
 
 
@@ -122,7 +169,7 @@ class Examples(unittest.TestCase):
     def test_examples(self):
         examples = doctest.DocTestParser().get_doctest(EXAMPLES, {}, "examples", None, 0)
         result = doctest.DocTestRunner().run(examples)
-        self.assertGreater(result.attempted, 60)
+        self.assertGreater(result.attempted, 90)
         self.assertEqual(result.failed, 0)
 
 

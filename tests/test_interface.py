@@ -5,6 +5,8 @@ import unittest
 from pathlib import Path
 
 from rootbags.bags import Bag
+from rootbags.rows import Row
+from rootbags.shelf import LoggedShelf, Shelf
 from rootbags.terms import parse_term
 
 ROOT = Path(__file__).resolve().parent.parent
@@ -70,6 +72,14 @@ FUNCTIONS = {
         "run_plan": "(plan, bags, *, road='sums')",
         "plan_table": "(plan)",
     },
+    "rows": {
+        "first_difference": "(one, other)",
+        "follows": "(bag, numbers)",
+    },
+    "snapshots": {
+        "write_snapshot": "(shelf)",
+        "read_snapshot": "(text)",
+    },
 }
 CLASSES = {
     "bags": {
@@ -92,16 +102,75 @@ CLASSES = {
             "__mul__": "(self, other)",
         },
     },
+    "rows": {
+        "Row": {
+            "__init__": "(self, bag, *first)",
+            "terms": "(self, many)",
+            "__call__": "(self, place)",
+            "walk": "(self, *, first=0, many=10)",
+            "residue": "(self, place, modulus)",
+            "__add__": "(self, other)",
+            "__mul__": "(self, other)",
+            "__neg__": "(self)",
+            "__eq__": "(self, other)",
+            "__len__": "(self)",
+            "__repr__": "(self)",
+            "total": "(self)",
+            "every": "(self, step, *, first=0)",
+            "shifted": "(self, many=1)",
+        },
+    },
+    "shelf": {
+        "Shelf": {
+            "__init__": "(self)",
+            "apply": "(self, command)",
+            "apply_all": "(self, commands)",
+            "undo": "(self)",
+            "redo": "(self)",
+            "history": "(self)",
+            "set_room": "(self, value)",
+            "names": "(self)",
+            "term": "(self, name)",
+            "uses": "(self, name)",
+            "users": "(self, name)",
+            "value": "(self, name)",
+            "kept": "(self)",
+            "table": "(self)",
+            "twin": "(self)",
+            "__len__": "(self)",
+            "__eq__": "(self, other)",
+            "__contains__": "(self, x)",
+            "__repr__": "(self)",
+        },
+        "LoggedShelf": {
+            "__init__": "(self)",
+            "apply": "(self, command)",
+            "apply_all": "(self, commands)",
+            "undo": "(self)",
+            "redo": "(self)",
+            "log": "(self)",
+        },
+    },
+    "console": {
+        "Console": {
+            "__init__": "(self, *, shelf=None)",
+            "run": "(self, line)",
+            "shelf": "(self)",
+            "log": "(self)",
+            "__len__": "(self)",
+        },
+    },
 }
-PROPERTIES = {"bags": {"Bag": ["size"]}}
-CLASS_METHODS = {"bags": {"Bag": ["of", "of_sums"]}}
-CLASS_VALUES = {"bags": {"Bag": {"MOST": 40}}}
+PROPERTIES = {"Bag": ["size"], "Shelf": ["room", "computed"], "LoggedShelf": ["refused"]}
+CLASS_METHODS = {"Bag": ["of", "of_sums"]}
+CLASS_VALUES = {"Bag": {"MOST": 40}, "Shelf": {"MOST": 12}}
 CONSTANTS = {
     "rationals": {"MAX_FIGURES": 100},
     "bags": {"MAX_SIZE": 40, "MAX_DIGITS": 100, "MAX_SUMS": 200},
     "operations": {"ROADS": ("sums", "matrices"), "MAX_EXPONENT": 16, "MAX_DEGREE": 6},
     "rounds": {"MAX_ORDER": 150},
     "terms": {"MAX_TEXT": 400, "MAX_OPEN": 20, "MAX_NODES": 60},
+    "rows": {"MAX_TERMS": 400, "FAR": 10 ** 40},
 }
 ONE = Bag((3, -1, 1))
 OTHER = Bag((1, 2, 5))
@@ -148,6 +217,9 @@ CALLS = (
     ("plans", "plan_trees", (PLAN,)),
     ("plans", "run_plan", (PLAN, {"other": OTHER, "one": ONE, "more": OTHER})),
     ("plans", "plan_table", (PLAN,)),
+    ("rows", "first_difference", (Row(ONE, 1, 2), Row(OTHER, 1, 2))),
+    ("rows", "follows", (ONE, [1, (2, -4), 0])),
+    ("snapshots", "read_snapshot", ("a = {1}\nb = a | a\n",)),
 )
 
 
@@ -174,12 +246,18 @@ class Interface(unittest.TestCase):
                     self.assertIn(method, vars(found))
                     plain = getattr(vars(found)[method], "__func__", vars(found)[method])
                     self.assertEqual(str(inspect.signature(plain)), parameters, method)
-                for method in CLASS_METHODS[name][kind]:
+                for method in CLASS_METHODS.get(kind, []):
                     self.assertIsInstance(vars(found)[method], classmethod)
-                for value in PROPERTIES[name][kind]:
+                for value in PROPERTIES.get(kind, []):
                     self.assertIsInstance(vars(found)[value], property)
-                for value, worth in CLASS_VALUES[name][kind].items():
+                for value, worth in CLASS_VALUES.get(kind, {}).items():
                     self.assertEqual(vars(found)[value], worth)
+
+    def test_the_room_can_be_assigned(self):
+        self.assertIsNotNone(vars(Shelf)["room"].fset)
+        for name in ("computed", "refused"):
+            self.assertIsNone(vars(Shelf).get(name, vars(LoggedShelf).get(name)).fset)
+        self.assertEqual(LoggedShelf.__bases__, (Shelf,))
 
     def test_constants(self):
         for name, constants in CONSTANTS.items():

@@ -27,6 +27,8 @@ BARRED_WORDS = re.compile(r"\b(type|typing|typing_extensions|enum|Enum|IntEnum|S
 CHANGING = set("""append clear extend insert pop remove reverse setdefault update sort add discard""".split())
 PURE_DOUBLE = DOUBLE - {"init", "enter", "exit", "call", "iter", "setitem"}
 TWO_OPERANDS = set("eq lt le gt ge ne add sub mul floordiv mod pow and or xor lshift rshift".split())
+LAZY = set("zip enumerate reversed range items keys values walk successive_powers".split())
+ITERATING = set("list tuple dict sorted sum any all enumerate zip".split())
 BARRED_NODES = (ast.Global, ast.AsyncFunctionDef, ast.AsyncFor, ast.AsyncWith, ast.Await, ast.Import, ast.Div,
                 ast.MatMult)
 
@@ -74,7 +76,7 @@ def functions_by_name():
     named = {}
     for path in files():
         for node in ast.walk(tree_of(path)):
-            if isinstance(node, ast.FunctionDef):
+            if isinstance(node, ast.FunctionDef) and not is_setter(node):
                 named.setdefault(node.name, []).append((path.name, node))
             elif isinstance(node, ast.ClassDef):
                 for row in node.body:
@@ -85,6 +87,10 @@ def functions_by_name():
 
 def is_property(node):
     return any(isinstance(row, ast.Name) and row.id == "property" for row in node.decorator_list)
+
+
+def is_setter(node):
+    return any(isinstance(row, ast.Attribute) and row.attr == "setter" for row in node.decorator_list)
 
 
 def names_used(node):
@@ -301,12 +307,54 @@ class Language(unittest.TestCase):
         for _, node in self.nodes(ast.Attribute):
             (read if isinstance(node.ctx, ast.Load) else attributes).add(node.attr)
         self.assertEqual(methods & attributes, set())
-        self.assertLessEqual(read, methods | attributes | METHODS)
+        self.assertLessEqual(read, methods | attributes | METHODS | {"setter"})
 
     def test_l22_keywords_of_builtins(self):
         for place, node in self.nodes(ast.Call):
             if isinstance(node.func, ast.Name) and hasattr(builtins, node.func.id):
                 self.assertLessEqual({row.arg for row in node.keywords}, {"key", "reverse", "default", "start"}, place)
+
+    def test_l7_calls_with_stars(self):
+        for place, node in self.nodes(ast.Call):
+            starred = [row.value for row in node.args if isinstance(row, ast.Starred)]
+            starred += [row.value for row in node.keywords if row.arg is None]
+            for row in starred + (node.args if starred else []):
+                plain = row.value if isinstance(row, ast.Starred) else row
+                self.assertIsInstance(plain, (ast.Name, ast.Attribute, ast.Constant), place)
+
+    def test_l19_only_own_errors_are_caught(self):
+        own = {row.name for row in tree_of(PACKAGE / "errors.py").body if isinstance(row, ast.ClassDef)}
+        for place, node in self.nodes(ast.ExceptHandler):
+            caught = node.type.elts if isinstance(node.type, ast.Tuple) else [node.type]
+            self.assertLessEqual({row.id for row in caught}, own, place)
+        for place, node in self.nodes(ast.Raise):
+            if node.exc is not None:
+                self.assertIsInstance(node.exc, ast.Call, place)
+                self.assertIn(node.exc.func.id, own, place)
+
+    def test_l26_own_names_are_not_those_of_builtin_values(self):
+        kinds = ("", b"", 1, [], (), {}, {1})
+        taken = {name for kind in kinds for name in dir(kind) if not name.startswith("__")}
+        for place, kind in self.nodes(ast.ClassDef):
+            names = {row.name for row in kind.body if isinstance(row, ast.FunctionDef)}
+            names |= {row.attr for row in ast.walk(kind) if isinstance(row, ast.Attribute) and
+                      not isinstance(row.ctx, ast.Load)}
+            self.assertEqual(names & taken, set(), place)
+
+    def test_l23_iterated_at_once(self):
+        for path in files():
+            tree = tree_of(path)
+            fine = set()
+            for node in ast.walk(tree):
+                if isinstance(node, (ast.For, ast.comprehension)):
+                    fine.add(id(node.iter))
+                elif isinstance(node, ast.Call) and isinstance(node.func, ast.Name) and node.func.id in ITERATING:
+                    fine.update(id(row) for row in node.args)
+            for node in ast.walk(tree):
+                if isinstance(node, ast.Call):
+                    word = node.func.id if isinstance(node.func, ast.Name) else getattr(node.func, "attr", "")
+                    if word in LAZY:
+                        self.assertIn(id(node), fine, (path, node.lineno))
 
     def test_l23_generators_have_names_of_their_own(self):
         named = functions_by_name()
