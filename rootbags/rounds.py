@@ -74,18 +74,23 @@ def wide_index(numbers):
     return None
 
 
-def come_round(bag):
-    """Return ("apart", s, i), ("round",) or ("moving",)."""
-    squarings = bag.size.bit_length() + 3
-    before = bag.whole
-    numbers = bag.whole
-    for step in range(squarings + 1):
+def squaring_result(whole, most):
+    """Return what come_round returns for a polynomial with the given number of squarings."""
+    before = whole
+    numbers = whole
+    for step in range(most + 1):
         if step > 0:
             before, numbers = numbers, squared(numbers)
         at = wide_index(numbers)
         if at is not None:
             return ("apart", step, at)
     return ("round",) if before == numbers else ("moving",)
+
+
+def come_round(bag):
+    """Return ("apart", s, i), ("round",) or ("moving",)."""
+    enough = 2 + bag.size.bit_length()
+    return squaring_result(bag.whole, enough + 1)
 
 
 def round_holds(bag, claimed):

@@ -6,7 +6,7 @@ from rootbags.bags import Bag
 from rootbags.errors import InvalidOrder, NotRound, SizeExceeded
 from rootbags.operations import choice_products, joined, pair_products, pair_quotients, powers
 from rootbags.parts import common, distinct, parts_by_count, without
-from rootbags.rounds import come_round, orders, round_holds, unity
+from rootbags.rounds import come_round, orders, round_holds, squaring_result, unity
 from support import BagCase, Samples, bag_of, fractions, times
 
 EMPTY = Bag.of()
@@ -170,6 +170,15 @@ class ComeRound(BagCase):
         self.assertGreaterEqual(come_round(LEHMER)[1], 4)
         late = LEHMER | Bag.of(*[1] * 30)
         self.assertEqual(come_round(late), expected_result(late))
+
+    def test_the_third_form(self):
+        # No bag is known for which come_round returns it: it takes fewer squarings than there are.
+        least = come_round(LEHMER)[1]
+        for squarings in range(1, least):
+            self.assertEqual(squaring_result(LEHMER.whole, squarings), ("moving",))
+        self.assertEqual(squaring_result(LEHMER.whole, least), come_round(LEHMER))
+        self.assertEqual(squaring_result(unity(8).whole, 1), ("moving",))
+        self.assertEqual(squaring_result(unity(8).whole, 4), ("round",))
 
     def test_long_numbers_do_not_exceed_digits(self):
         for number in (10 ** 99, -10 ** 100 + 1, (1, 10 ** 99), (10 ** 100 - 1, 10 ** 99)):

@@ -151,6 +151,13 @@ class Limits(TermCase):
         self.assertIsNone(fault("(" * 19 + "(a)|(b)|distinct(c)" + ")" * 19))
         self.assertIsNone(fault("(a)|" * 29 + "(a)"))
 
+    def test_parentheses_that_are_closed_do_not_count(self):
+        for closed in ("(a)|", "((a))|", "distinct(a)|", "roots([1])|(a)|", "(a)|" * 10):
+            self.assertEqual(fault(closed + "(" * 21), ("NestingTooDeep", 20))
+            self.assertIsNone(fault(closed + "(" * 20 + "a" + ")" * 20))
+            self.assertEqual(fault("(" * 10 + closed + "(" * 11), ("NestingTooDeep", 20))
+            self.assertIsNone(fault("(" * 10 + closed + "(" * 10 + "a" + ")" * 20))
+
     def test_open_parentheses_from_left_to_right(self):
         self.assert_invalid(20, "(" * 20 + "#(", "(" * 20 + "a(", "(" * 20 + ")", "(" * 20 + "foo(a)")
         self.assert_invalid(22, "(" * 20 + "{}(")
