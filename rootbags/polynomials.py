@@ -5,17 +5,13 @@ Long numbers then need few reductions to lowest terms, which are the slow part o
 """
 
 from rootbags.errors import InvalidPolynomial
-from rootbags.rationals import as_pair, least_multiple, lowest
+from rootbags.rationals import as_pair, lowest, over_one_scale
 from rootbags.wholes import content, difference, product, scaled, shared_whole, split_whole, trimmed, without_factor
 
 
 def whole_parts(poly):
     """Return the integers and the scale of a polynomial; the scale is positive."""
-    pairs = [as_pair(value) for value in poly]
-    scale = 1
-    for pair in pairs:
-        scale = least_multiple(scale, pair[1])
-    numbers = [numerator * (scale // denominator) for numerator, denominator in pairs]
+    numbers, scale = over_one_scale(poly)
     return trimmed(numbers), scale
 
 

@@ -49,6 +49,15 @@ def rational(value):
     return lowest(numerator, denominator)
 
 
+def over_one_scale(values):
+    """Return a list of integers and a positive integer, the scale, by which they are divided to give some rationals."""
+    pairs = [as_pair(value) for value in values]
+    scale = 1
+    for pair in pairs:
+        scale = least_multiple(scale, pair[1])
+    return [above * (scale // below) for above, below in pairs], scale
+
+
 def whole_text(number):
     """Return the text of an integer.
 

@@ -3,7 +3,7 @@
 from rootbags.bags import Bag, lowest_by
 from rootbags.errors import InvalidCount, InvalidExponent, InvalidModulus, InvalidPlace, InvalidRow, SharedDivisor
 from rootbags.operations import MAX_EXPONENT, powers
-from rootbags.rationals import as_pair, least_multiple, shared_factor
+from rootbags.rationals import over_one_scale, shared_factor
 from rootbags.residues import term_by
 from rootbags.sums import root_scale
 from rootbags.wholes import content, powers_of, without_factor
@@ -22,15 +22,6 @@ def check_place(place, most):
     """Raise InvalidPlace if a place is out of range."""
     if not 0 <= place <= most:
         raise InvalidPlace(place)
-
-
-def over_one_scale(values):
-    """Return a list of integers and a positive integer, the scale, by which they are divided to give some rationals."""
-    pairs = [as_pair(value) for value in values]
-    scale = 1
-    for pair in pairs:
-        scale = least_multiple(scale, pair[1])
-    return [above * (scale // below) for above, below in pairs], scale
 
 
 def base_powers(whole, base, many):
